@@ -1,0 +1,1 @@
+"""Fewchecks: words mended by checks of few letters."""
