@@ -2,10 +2,10 @@ import copy
 import random
 import unittest
 
+from tests.drawn import FORTY, SIXTY
+
 from fewchecks.field import over, total
 
-FORTY = 10 ** 40 - 17
-SIXTY = 10 ** 60 - 1
 PRIMES = (2, 3, 5, 7, 13, 101, 10 ** 9 + 7, 10 ** 39 + 3, FORTY)
 
 

@@ -16,6 +16,7 @@ METHODS = set(
     "append clear copy count endswith extend find get index insert isalnum isalpha isdigit islower isspace isupper"
     " items join keys ljust lower lstrip partition pop remove replace reverse rfind rjust rpartition rsplit rstrip"
     " setdefault split splitlines startswith strip update upper values zfill bit_length".split())
+CHANGES = ("append", "clear", "extend", "insert", "pop", "remove", "reverse", "setdefault", "update")
 DUNDERS = {"__init__", "__eq__", "__repr__", "__str__", "__len__"}
 NEVER_NAMED = set(
     "register mro elements open input version_info with_traceback add_note attrgetter breakpoint builtins compile"
@@ -127,9 +128,82 @@ def faults_of_top(tree):
     return found
 
 
+def names_at_top(tree):
+    for node in tree.body:
+        if isinstance(node, (ast.FunctionDef, ast.ClassDef)):
+            yield node.name
+        elif isinstance(node, ast.Assign):
+            yield node.targets[0].id
+        elif isinstance(node, ast.ImportFrom):
+            for part in node.names:
+                yield part.name
+
+
+def faults_of_doubles(tree):
+    top = list(names_at_top(tree))
+    found = ["L15 twice " + name for name in top if top.count(name) > 1]
+    kept = {node.name for node in tree.body if isinstance(node, ast.ClassDef)}
+    kept |= {part.name for node in tree.body if isinstance(node, ast.ImportFrom) for part in node.names}
+    for node in tree.body:
+        if isinstance(node, (ast.FunctionDef, ast.ClassDef)):
+            inner = [name for sub in node.body for name in names_bound(sub)]
+            if isinstance(node, ast.FunctionDef):
+                inner += [arg.arg for arg in node.args.args]
+            found += ["L15 local " + name for name in inner if name in kept]
+        if isinstance(node, ast.ClassDef):
+            methods = methods_of(ast.Module([node], []))
+            found += ["L18 twice " + name for name in methods if methods.count(name) > 1]
+    return found
+
+
+def called_name(node):
+    if isinstance(node, ast.Call):
+        return getattr(node.func, "id", getattr(node.func, "attr", None))
+    return None
+
+
+def is_walked_at_once(node, parent):
+    if isinstance(parent, (ast.For, ast.comprehension)):
+        return parent.iter is node
+    name = called_name(parent)
+    if name in ("list", "tuple", "dict", "sorted", "sum", "any", "all", "enumerate"):
+        return parent.args[0] is node
+    return name == "zip" or name in ("min", "max", "join") and len(parent.args) == 1
+
+
+def faults_of_walks(tree):
+    found = []
+    parents = {id(sub): node for node in ast.walk(tree) for sub in ast.iter_child_nodes(node)}
+    for node in ast.walk(tree):
+        name = called_name(node)
+        if name in ("zip", "enumerate", "reversed", "range", "items", "keys", "values"):
+            if not is_walked_at_once(node, parents[id(node)]):
+                found.append("L23 kept " + name)
+        if isinstance(node, ast.For):
+            found += ["L23 changed " + walked for walked in walked_by(node.iter) if walked in changed_in(node.body)]
+    return found
+
+
+def walked_by(node):
+    if isinstance(node, ast.Call):
+        under = [node.func.value] if isinstance(node.func, ast.Attribute) else []
+        inner = node.args if called_name(node) in ("enumerate", "zip", "reversed") else under
+        return [walked for sub in inner for walked in walked_by(sub)]
+    return [ast.unparse(node)]
+
+
+def changed_in(body):
+    for node in [sub for statement in body for sub in ast.walk(statement)]:
+        if isinstance(node, ast.Subscript) and isinstance(node.ctx, ast.Store):
+            yield ast.unparse(node.value)
+        if isinstance(node, ast.Call) and called_name(node) in CHANGES and isinstance(node.func, ast.Attribute):
+            yield ast.unparse(node.func.value)
+
+
 def faults_of(text, own_methods=()):
     tree = ast.parse(text)
     found = faults_of_text(text) + faults_of_top(tree) + faults_of_names(tree)
+    found += faults_of_doubles(tree) + faults_of_walks(tree)
     for node in ast.walk(tree):
         found.extend(faults_of_node(node))
         if isinstance(node, ast.Call) and isinstance(node.func, ast.Attribute):
@@ -178,6 +252,13 @@ class LanguageTest(unittest.TestCase):
             for name in ready:
                 draws.pop(name)
 
+    def test_no_name_is_a_method_and_a_value(self):
+        trees = [ast.parse(text) for text in read_files().values()]
+        methods = {name for tree in trees for name in methods_of(tree)}
+        values = {node.attr for tree in trees for node in ast.walk(tree)
+                  if isinstance(node, ast.Attribute) and isinstance(node.ctx, ast.Store)}
+        self.assertEqual(methods & values, set())
+
     def test_faults_are_seen(self):
         for text in ("import sys\n", "from fewchecks import nets\n", "from .nets import formed\n", "print(1)\n",
                      "a = 1 / 2\n", "a = 0.5\n", "a = b = 1\n", "a = {x: 1 for x in (1, 2)}\n",
@@ -185,7 +266,14 @@ class LanguageTest(unittest.TestCase):
                      "def f(x):\n    return x.sort()\n", "def f(sum):\n    pass\n", "def f(x, y):\n    return x is y\n",
                      "def f(x):\n    return 2 ** x\n", "def f(x):\n    yield x\n", "def _f(x):\n    pass\n",
                      "# a type\n", "# a tab\t\n", "class A:\n    b = 1\n", "# " + "a" * 120 + "\n",
-                     "def f(x):\n" + "    x = 1\n" * 40):
+                     "def f(x):\n" + "    x = 1\n" * 40, "a = 1\na = 2\n",
+                     "from fewchecks.nets import sums\ndef f(sums):\n    pass\n",
+                     "class A:\n    pass\ndef f(x):\n    A = x\n",
+                     "class A:\n    def f(self):\n        pass\n    def f(self):\n        pass\n",
+                     "def f(x):\n    return g(range(x))\n", "def f(x):\n    return 1 in x.values()\n",
+                     "def f(x):\n    for k, y in enumerate(x):\n        x[k] = y\n",
+                     "def f(x):\n    for y in x:\n        x.append(y)\n",
+                     "def f(x):\n    for y in x.items():\n        x[y] = y\n"):
             with self.subTest(text):
                 self.assertNotEqual(faults_of(text), [])
         self.assertEqual(faults_of("def f(x):\n" + "    x = 1\n" * 39), [])

@@ -3,19 +3,11 @@ import itertools
 import random
 import unittest
 
+from tests.drawn import FORTY, SIXTY, drawn_net
+
 from fewchecks.nets import crossed, degrees, formed, is_true, seats, sums
 
-FORTY = 10 ** 40 - 17
-SIXTY = 10 ** 60 - 1
 SMALL = (7, 5, [[(0, 1), (1, 2), (3, 6)], [(1, 3), (2, 1)], [(3, 4)]])
-
-
-def drawn_net(drawn, p, n, many, most):
-    checks = []
-    for c in range(many):
-        places = sorted(drawn.sample(range(n), drawn.randint(1, min(n, most))))
-        checks.append([(place, drawn.randint(1, p - 1)) for place in places])
-    return (p, n, checks)
 
 
 def drawn_nets(seed):
