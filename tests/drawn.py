@@ -1,5 +1,6 @@
 """Nets and words for the tests, drawn from a given seed: the same at each run."""
 
+import copy
 import itertools
 import random
 
@@ -48,3 +49,25 @@ def lines(p, directions):
             spots = [5 * x + (slope * x + first) % 5 if slope < 5 else 5 * first + x for x in range(5)]
             checks.append([(place, 1 + (place * 7 + slope) % (p - 1)) for place in sorted(spots)])
     return (p, 25, checks)
+
+
+def lists_in(thing):
+    inner = [found for sub in thing for found in lists_in(sub)] if isinstance(thing, (list, tuple)) else []
+    return inner + [thing] if isinstance(thing, list) else inner
+
+
+def parts_of(thing):
+    return [part for sub in thing for part in parts_of(sub)] if isinstance(thing, (list, tuple)) else [thing]
+
+
+# What a name of the interface tells, asked at the same time whether it keeps to what holds
+# for all of them: what is handed in stays, and lists that are told are the asker's own.
+def asked(test, ask, *handed):
+    before = copy.deepcopy(handed)
+    told = ask(*handed)
+    test.assertEqual(handed, before)
+    lists = [id(found) for found in lists_in(told)]
+    test.assertEqual(len(set(lists)), len(lists))
+    test.assertFalse(set(lists) & {id(found) for found in lists_in(handed)})
+    test.assertTrue(all(type(part) in (int, str, type(None)) for part in parts_of(told)), told)
+    return told
