@@ -1,5 +1,6 @@
 """Nets: tuples (p, n, checks), each check a list of pairs (place, factor)."""
 
+from fewchecks.errors import NoLetter, NoPlace
 from fewchecks.field import total
 
 MOST_PLACES = 400
@@ -24,6 +25,21 @@ def is_check(p, n, pairs):
     return len(pairs) > 0
 
 
+# Asked by itself, for a list would take a place below 0 from its end.
+def ask_place(n, place):
+    if place < 0 or place >= n:
+        raise NoPlace("there is no such place")
+
+
+def is_letter(p, letter):
+    return 0 <= letter and letter < p
+
+
+def ask_letter(p, letter):
+    if not is_letter(p, letter):
+        raise NoLetter("this is no letter")
+
+
 def sums(net, word):
     return [sum_of(net[0], pairs, word) for pairs in net[2]]
 
@@ -40,6 +56,10 @@ def is_true(net, word):
     if None in word:
         return False
     return all([reached == 0 for reached in sums(net, word)])
+
+
+def lost_of(word):
+    return [place for place, letter in enumerate(word) if letter is None]
 
 
 def seats(net):

@@ -1,18 +1,21 @@
 """Rounds: a check with just one lost letter tells it, round by round."""
 
-from fewchecks.errors import NoLetter, NoPlace
 from fewchecks.field import over, total
+from fewchecks.nets import ask_letter, ask_place, lost_of
 
 
 def told_by(net, word, c):
-    p = net[0]
-    pairs = net[2][c]
+    return told_for(net[0], net[2][c], 0, word)
+
+
+# The letter that makes the sum of the pairs the rest; a net's checks have the rest 0.
+def told_for(p, pairs, rest, word):
     lost = [(place, factor) for place, factor in pairs if word[place] is None]
     if len(lost) != 1:
         return None
     place = lost[0][0]
     factor = lost[0][1]
-    return (place, over(p, -total(p, pairs, word), factor))
+    return (place, over(p, rest - total(p, pairs, word), factor))
 
 
 # The checks are asked in rising order, so the first that tells a place is the least.
@@ -50,25 +53,19 @@ class Mender:
         return rounds
 
     def lose(self, place):
-        self.ask_place(place)
+        ask_place(self.net[1], place)
         self.letters[place] = None
 
     def put(self, place, letter):
-        self.ask_place(place)
-        if letter < 0 or letter >= self.net[0]:
-            raise NoLetter("this is no letter of the net")
+        ask_place(self.net[1], place)
+        ask_letter(self.net[0], letter)
         self.letters[place] = letter
-
-    # Asked by itself, for a list would take a place below 0 from its end.
-    def ask_place(self, place):
-        if place < 0 or place >= self.net[1]:
-            raise NoPlace("the net has no such place")
 
     def word(self):
         return list(self.letters)
 
     def lost(self):
-        return [place for place, letter in enumerate(self.letters) if letter is None]
+        return lost_of(self.letters)
 
 
 def mended(net, word):

@@ -1,6 +1,7 @@
 """All checks together: what is told by checks that are added up."""
 
 from fewchecks.field import inverse, total
+from fewchecks.nets import lost_of
 
 
 # A row is a sum of checks: its number at each place and, behind these, the factors
@@ -52,10 +53,6 @@ def less(p, row, factor, own):
     if factor == 0:
         return row
     return [(number - factor * other) % p for number, other in zip(row, own)]
-
-
-def lost_of(word):
-    return [place for place, letter in enumerate(word) if letter is None]
 
 
 # Over the known letters alone: total leaves the lost ones out.

@@ -258,6 +258,8 @@ class LanguageTest(unittest.TestCase):
         values = {node.attr for tree in trees for node in ast.walk(tree)
                   if isinstance(node, ast.Attribute) and isinstance(node.ctx, ast.Store)}
         self.assertEqual(methods & values, set())
+        held = {name for kind in (str, int, list, tuple, dict, set, bytes) for name in dir(kind)}
+        self.assertEqual((methods - DUNDERS - METHODS | values) & held, set())
 
     def test_faults_are_seen(self):
         for text in ("import sys\n", "from fewchecks import nets\n", "from .nets import formed\n", "print(1)\n",

@@ -19,7 +19,7 @@ class ReadmeTest(unittest.TestCase):
                     asked += 1
                 else:
                     exec(code, names)
-        self.assertTrue(asked > 30)
+        self.assertTrue(asked > 50)
 
 
 if __name__ == "__main__":
